@@ -1,0 +1,20 @@
+"""What counts as a whole number, as a number and as a name."""
+
+LETTERS = "abcdefghijklmnopqrstuvwxyz"
+LONGEST_NAME = 8
+
+
+def is_whole(thing):
+    # True and False are ints to Python, but stand for no whole number here.
+    return isinstance(thing, int) and not isinstance(thing, bool)
+
+
+def is_number(thing):
+    return is_whole(thing) and abs(thing) < 10 ** 60
+
+
+def is_name(thing):
+    if not isinstance(thing, str) or not 1 <= len(thing) <= LONGEST_NAME:
+        return False
+    # islower would let letters beyond a to z through.
+    return all([sign in LETTERS for sign in thing])
