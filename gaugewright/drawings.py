@@ -1,7 +1,7 @@
 """Drawings: tuples of parts (name, low, high); and their sets, a number for each part."""
 
 from gaugewright.errors import NoDrawing, NoPart, NoSet, NoSpan, TooGreat
-from gaugewright.kinds import is_name, is_number, is_whole
+from gaugewright.kinds import are_ends, is_name, is_whole
 from gaugewright.spans import inside, is_span, size_of
 
 MOST_PARTS = 8
@@ -11,9 +11,7 @@ MOST_SETS = 300
 def is_part(thing):
     if not isinstance(thing, tuple) or len(thing) != 3:
         return False
-    if not is_name(thing[0]):
-        return False
-    return is_number(thing[1]) and is_number(thing[2]) and thing[1] <= thing[2]
+    return is_name(thing[0]) and are_ends(thing[1], thing[2])
 
 
 def span_of(part):

@@ -13,6 +13,10 @@ def is_number(thing):
     return is_whole(thing) and abs(thing) < 10 ** 60
 
 
+def are_ends(low, high):
+    return is_number(low) and is_number(high) and low <= high
+
+
 def is_name(thing):
     if not isinstance(thing, str) or not 1 <= len(thing) <= LONGEST_NAME:
         return False

@@ -174,7 +174,7 @@ def name_rules(node, own):
             yield "L12"
         if node.id in UNUSED:
             yield "L17"
-        if isinstance(node.ctx, ast.Store) and node.id in dir(builtins):
+        if isinstance(node.ctx, ast.Store) and (node.id in own or node.id in dir(builtins)):
             yield "L15"
         if isinstance(node.ctx, ast.Load) and node.id in dir(builtins) and node.id not in OWN_NAMES:
             yield "L8"

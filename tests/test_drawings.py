@@ -1,11 +1,11 @@
-import copy
 import itertools
 import unittest
 
+from asking import Asking, refusal_of
 from gaugewright.drawings import (
     all_sets, drawing_of, first_set, how_many, is_set, last_set, narrowed, nearest,
 )
-from gaugewright.errors import GaugeError, NoDrawing, NoPart, NoSet, NoSpan, TooGreat
+from gaugewright.errors import NoDrawing, NoPart, NoSet, NoSpan, TooGreat
 from samples import GREATEST, LONG_END, TOO_LONG, deep_list, deep_tuple, no_whole_numbers, whatever
 
 BUSH = (("pin", 3, 5), ("bore", -2, 1))
@@ -15,18 +15,7 @@ EIGHT = tuple((name, 0, 1) for name in "abcdefgh")
 DRAWINGS = (BUSH, ONE, LONG, EIGHT)
 
 
-def refusal_of(test, call, *handed):
-    with test.assertRaises(GaugeError) as caught:
-        call(*handed)
-    return caught.exception
-
-
-class Refusing(unittest.TestCase):
-    def assert_refused(self, kind, fields, call, *handed):
-        refused = refusal_of(self, call, *handed)
-        self.assertIs(type(refused), kind)
-        self.assertEqual(vars(refused), fields)
-
+class Refusing(Asking):
     def assert_no_drawing(self, number, things):
         self.assert_refused(NoDrawing, {"number": number}, drawing_of, things)
 
@@ -303,23 +292,16 @@ class Sets(Refusing):
         self.assert_refused(TooGreat, {"many": how_many(LONG), "most": 300}, all_sets, LONG)
 
     def test_what_was_told_is_the_askers_own(self):
-        told = all_sets(BUSH)
-        kept = copy.deepcopy(told)
-        told.reverse()
-        told.append(None)
-        self.assertEqual(all_sets(BUSH), kept)
+        self.assert_told_anew(all_sets, BUSH)
         self.assertIsNot(all_sets(BUSH), all_sets(BUSH))
 
     def test_the_same_question_has_the_same_answer(self):
-        asked = [
+        self.assert_same_again([
             lambda: drawing_of(list(BUSH)), lambda: all_sets(BUSH), lambda: how_many(BUSH), lambda: first_set(BUSH),
             lambda: last_set(BUSH), lambda: nearest(BUSH, (0, 0)), lambda: narrowed(BUSH, 1, (0, 0)),
             lambda: is_set(BUSH, (3, 0)), lambda: vars(refusal_of(self, all_sets, LONG)),
             lambda: vars(refusal_of(self, drawing_of, [BUSH[0], None])),
-        ]
-        first = [ask() for ask in asked]
-        self.assertEqual([ask() for ask in reversed(asked)], first[::-1])
-        self.assertEqual([ask() for ask in asked], first)
+        ])
 
 
 if __name__ == "__main__":

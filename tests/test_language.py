@@ -64,6 +64,7 @@ class Faults(unittest.TestCase):
             ("L7", "def half(a):\n    return a / 2\n"), ("L7", "HALF = 0.5\n"),
             ("L8", "def first(a):\n    return iter(a)\n"), ("L12", "def first(a):\n    for _ in a:\n        pass\n"),
             ("L14", "NAME = '\u00e9'\n"), ("L15", "def first(hash):\n    return hash\n"),
+            ("L15", "from gaugewright.reach import reach\n\n\ndef first(a):\n    reach = a\n    return reach\n"),
             ("L17", "def first(a):\n    return id(a)\n"), ("L17", "# this type\n"),
             ("L19", "def first(a):\n    try:\n        return a\n    except TypeError:\n        return 1\n"),
             ("L20", "def alike(a, b):\n    return a is b\n"), ("L25", "def first(a):\n    a.sort()\n"),
