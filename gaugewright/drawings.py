@@ -72,13 +72,12 @@ def all_sets(drawing):
         raise TooGreat(many, MOST_SETS)
     beginnings = [()]
     for part in drawing:
-        beginnings = each_longer(beginnings, part)
+        beginnings = each_longer(beginnings, list(range(part[1], part[2] + 1)))
     return beginnings
 
 
-def each_longer(beginnings, part):
+def each_longer(beginnings, numbers):
     longer = []
     for beginning in beginnings:
-        for number in range(part[1], part[2] + 1):
-            longer.append(beginning + (number,))
+        longer.extend([beginning + (number,) for number in numbers])
     return longer

@@ -98,6 +98,37 @@ def random_jobs(seed, many):
         yield drawing, tuple(random_gap(source, drawing, pool) for gap in range(source.randint(1, 6)))
 
 
+def random_offers(source, drawing, most):
+    """Offers of each part, so that there are no more choices than told."""
+    while True:
+        offers = tuple(random_offers_of(source, part) for part in drawing)
+        if len(choices_of(offers)) <= most:
+            return offers
+
+
+def random_offers_of(source, part):
+    offers = [(part[1], part[2], 0)]
+    for step in range(source.randint(0, 3)):
+        low, high, price = offers[-1]
+        inner = sorted((source.randint(low, high), source.randint(low, high)))
+        if inner != [low, high]:
+            offers.append((inner[0], inner[1], price + source.randint(1, 4)))
+    return tuple(offers)
+
+
+def choices_of(offers):
+    return list(itertools.product(*[range(len(of_part)) for of_part in offers]))
+
+
+def drawing_by(drawing, offers, choice):
+    spans = [of_part[number][:2] for of_part, number in zip(offers, choice)]
+    return tuple((part[0],) + span for part, span in zip(drawing, spans))
+
+
+def is_safe(job, offers, choice):
+    return all(is_kept(gap, one) for one in sets_of(drawing_by(job[0], offers, choice)) for gap in job[1])
+
+
 def long_spans():
     return [
         (-GREATEST, GREATEST), (0, GREATEST), (-GREATEST, 0), (GREATEST, GREATEST), (-GREATEST, 1 - GREATEST),

@@ -26,10 +26,14 @@ NODES = (
     ast.Module, ast.FunctionDef, ast.ClassDef, ast.arguments, ast.arg, ast.ImportFrom, ast.alias, ast.Assign,
     ast.AugAssign, ast.If, ast.While, ast.For, ast.Return, ast.Break, ast.Continue, ast.Pass, ast.Raise, ast.Try,
     ast.ExceptHandler, ast.Expr, ast.Lambda, ast.Name, ast.Attribute, ast.Subscript, ast.Slice, ast.Call, ast.keyword,
-    ast.Constant, ast.List, ast.Tuple, ast.Dict, ast.BinOp, ast.UnaryOp, ast.BoolOp, ast.Compare, ast.IfExp,
+    ast.Constant, ast.List, ast.Tuple, ast.Dict, ast.Set, ast.BinOp, ast.UnaryOp, ast.BoolOp, ast.Compare, ast.IfExp,
     ast.ListComp, ast.comprehension, ast.JoinedStr, ast.FormattedValue, ast.operator, ast.unaryop, ast.boolop,
     ast.cmpop, ast.expr_context)
 LOOPS = (ast.For, ast.While)
+WALKED = set("zip enumerate reversed range items keys values".split())
+WALKERS = set("list tuple dict sorted sum any all enumerate zip".split())
+KEYWORDS = {"sorted": {"key", "reverse"}, "min": {"key", "default"}, "max": {"key", "default"}, "sum": {"start"},
+            "enumerate": {"start"}, "zip": {"strict"}}
 
 
 def faults_of(source):
@@ -94,6 +98,9 @@ def node_faults(tree):
     defined = {node.name for node in tree.body if isinstance(node, (ast.FunctionDef, ast.ClassDef))}
     faults = []
     for node in ast.walk(tree):
+        for inner in ast.iter_child_nodes(node):
+            inner.around = node
+    for node in ast.walk(tree):
         for rule in rules_broken(node, imported | defined):
             faults.append(f"{rule} line {getattr(node, 'lineno', 0)}")
     return faults
@@ -102,7 +109,8 @@ def node_faults(tree):
 def rules_broken(node, own):
     if not isinstance(node, NODES):
         yield "L6 L7"
-    for look in (import_rules, function_rules, class_rules, statement_rules, value_rules, name_rules, call_rules):
+    for look in (import_rules, function_rules, class_rules, statement_rules, value_rules, name_rules, call_rules,
+                 own_call_rules, walk_rules):
         yield from look(node, own)
 
 
@@ -198,6 +206,47 @@ def call_rules(node, own):
         yield "L7"
     if isinstance(node, ast.keyword) and node.arg is None:
         yield "L7"
+
+
+def own_call_rules(node, own):
+    if isinstance(node, ast.Call) and isinstance(node.func, ast.Name) and node.func.id in OWN_NAMES:
+        if any(handed.arg not in KEYWORDS.get(node.func.id, ()) for handed in node.keywords):
+            yield "L22"
+    if isinstance(node, ast.Name) and isinstance(node.ctx, ast.Load) and node.id in OWN_NAMES:
+        if not (called(node) or kind_asked(node) or node.id.endswith(("Error", "Exception"))
+                or isinstance(node.around, ast.keyword) and node.around.arg == "key"):
+            yield "L22"
+
+
+def called(node):
+    return isinstance(node.around, ast.Call) and node.around.func is node
+
+
+def kind_asked(node):
+    around = node.around.around if isinstance(node.around, ast.Tuple) else node.around
+    return isinstance(around, ast.Call) and name_of(around) == "isinstance"
+
+
+def name_of(call):
+    return getattr(call.func, "attr", getattr(call.func, "id", None))
+
+
+def walk_rules(node, own):
+    if isinstance(node, ast.Call) and name_of(node) in WALKED and name_of(node) not in own and not walked(node):
+        yield "L23"
+    if isinstance(node, ast.Set) or isinstance(node, ast.Call) and name_of(node) in ("set", "frozenset"):
+        if not isinstance(node.around, (ast.Compare, ast.BinOp)):
+            if not isinstance(node.around, ast.Call) or name_of(node.around) not in ("sorted", "len"):
+                yield "L24"
+
+
+def walked(node):
+    around = node.around
+    if isinstance(around, (ast.For, ast.comprehension)):
+        return around.iter is node
+    if not isinstance(around, ast.Call) or not around.args or around.args[0] is not node:
+        return False
+    return name_of(around) in WALKERS or name_of(around) in ("min", "max") and len(around.args) == 1
 
 
 def drawn_from(source):

@@ -50,6 +50,8 @@ class Faults(unittest.TestCase):
             "def least(things):\n    return min([thing[0] for thing in things if thing], default=None)\n",
             "def great(thing):\n    return thing is not None and thing >= 10 ** 60\n",
             "class Kept:\n    def __init__(self):\n        self.rows = []\n",
+            "def first(a):\n    return sorted(a.items(), key=len) + list(range(3)) + sorted(set(a))\n",
+            "def first(a):\n    return [isinstance(b, (int, str)) for b, c in zip(a, a) if b in {1, c}]\n",
         ]:
             self.assertEqual(faults_of(source), [])
 
@@ -68,6 +70,13 @@ class Faults(unittest.TestCase):
             ("L17", "def first(a):\n    return id(a)\n"), ("L17", "# this type\n"),
             ("L19", "def first(a):\n    try:\n        return a\n    except TypeError:\n        return 1\n"),
             ("L20", "def alike(a, b):\n    return a is b\n"), ("L25", "def first(a):\n    a.sort()\n"),
+            ("L22", "def first(a):\n    kept = len\n    return kept(a)\n"),
+            ("L22", "def first(a):\n    return list(a, key=len)\n"),
+            ("L23", "def first(a):\n    kept = range(a)\n    return kept\n"),
+            ("L23", "def first(a):\n    return reversed(range(a))\n"),
+            ("L23", "def first(a):\n    a.extend(zip(a, a))\n"), ("L23", "def first(a):\n    return a.items()\n"),
+            ("L24", "def first(a):\n    kept = set(a)\n    return kept\n"),
+            ("L24", "def first(a):\n    return {a, 1}\n"),
             ("L27", "def power(a):\n    return 2 ** a\n"), ("L27", "WORDS = 'a %'\n"),
         ]:
             with self.subTest(source=source):
