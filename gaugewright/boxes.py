@@ -27,6 +27,10 @@ def fitting_pieces(gap, number, other):
     return [j for j, its_number in enumerate(other) if keeps(gap, (number, its_number))]
 
 
+def all_fit(gap, one, other):
+    return len(pairs(gap, one, other)) == len(one) * len(other)
+
+
 def matched(gap, one, other):
     rows = partners_of(gap, one, other)
     most = len(most_matched(rows))

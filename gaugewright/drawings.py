@@ -66,10 +66,14 @@ def how_many(drawing):
     return many
 
 
-def all_sets(drawing):
+def refuse_too_many_sets(drawing):
     many = how_many(drawing)
     if many > MOST_SETS:
         raise TooGreat(many, MOST_SETS)
+
+
+def all_sets(drawing):
+    refuse_too_many_sets(drawing)
     beginnings = [()]
     for part in drawing:
         beginnings = each_longer(beginnings, list(range(part[1], part[2] + 1)))

@@ -1,4 +1,4 @@
-"""What counts as a whole number, as a number and as a name."""
+"""What counts as a whole number, as a number, as a name, and as a tuple of just these whole numbers."""
 
 LETTERS = "abcdefghijklmnopqrstuvwxyz"
 LONGEST_NAME = 8
@@ -11,6 +11,11 @@ def is_whole(thing):
 
 def is_number(thing):
     return is_whole(thing) and abs(thing) < 10 ** 60
+
+
+def is_same(thing, numbers):
+    # To Python (True,) equals (1,), so that a tuple is equal is not enough.
+    return isinstance(thing, tuple) and all([is_whole(number) for number in thing]) and thing == numbers
 
 
 def are_ends(low, high):
