@@ -40,19 +40,23 @@ def all_choices(sizes):
 def floor_of(job, offers, price):
     sizes = sizes_of(offers)
     refuse_too_many(sizes)
-    floor = []
+    return rows_with_whys(sizes, lambda beginning: why_not(job, offers, price, beginning))
+
+
+def rows_with_whys(sizes, why_of):
+    rows = []
     left = [()]
     while left:
         beginning = left.pop()
-        why = why_not(job, offers, price, beginning)
+        why = why_of(beginning)
         if why is not None:
-            floor.append((beginning, why))
+            rows.append((beginning, why))
         elif len(beginning) == len(sizes):
             return None
         else:
             # What is put in last is looked at first, so the least one goes in last.
             left.extend(each_longer([beginning], list(range(sizes[len(beginning)] - 1, -1, -1))))
-    return floor
+    return rows
 
 
 def why_not(job, offers, price, beginning):
@@ -68,13 +72,17 @@ def narrowest(drawing, offers, beginning):
 
 
 def floor_holds(job, offers, price, thing):
+    if not are_rows(sizes_of(offers), thing):
+        return False
+    return all([is_why_not(job, offers, price, beginning, why) for beginning, why in thing])
+
+
+def are_rows(sizes, thing):
     if not isinstance(thing, list):
         return False
     if not all([isinstance(row, tuple) and len(row) == 2 for row in thing]):
         return False
-    if not part_all_choices(sizes_of(offers), [row[0] for row in thing]):
-        return False
-    return all([is_why_not(job, offers, price, beginning, why) for beginning, why in thing])
+    return part_all_choices(sizes, [row[0] for row in thing])
 
 
 def part_all_choices(sizes, things):

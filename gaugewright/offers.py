@@ -9,8 +9,12 @@ MOST_OFFERS = 4
 
 
 def offers_of(drawing, things):
+    return made_by_parts(drawing, things, are_offers)
+
+
+def made_by_parts(drawing, things, are_right):
     for number, thing in enumerate(things):
-        if number >= len(drawing) or not are_offers(drawing[number], thing):
+        if number >= len(drawing) or not are_right(drawing[number], thing):
             raise NoOffer(number)
     if len(things) < len(drawing):
         raise NoOffer(len(things))

@@ -82,10 +82,10 @@ class Planner:
     def least(self, terms, worth):
         # Many orders of measuring come to the same terms and worth.
         if (terms, worth) not in self.known:
-            self.known[(terms, worth)] = self.found(terms, worth)
+            self.known[(terms, worth)] = self.best(terms, worth)
         return self.known[(terms, worth)]
 
-    def found(self, terms, worth):
+    def best(self, terms, worth):
         if not terms:
             return (0, KEEPS if self.gap[1] <= worth <= self.gap[2] else BREAKS)
         return min([self.measuring(terms, place, worth) for place in range(len(terms))], key=lambda plan: plan[0])
@@ -97,7 +97,7 @@ class Planner:
         worths = [worth + terms[place][1] * number for number in range(span[0], span[1] + 1)]
         found = [self.least(others, each) for each in worths]
         deepest = max([further[0] for further in found])
-        # Where all numbers lead to the same word at once, there is nothing to measure.
-        if deepest == 0 and len(unlike_ones(found)) == 1:
+        # Where the same plan follows on each number, this part need not be measured for it.
+        if all([further == found[0] for further in found]):
             return found[0]
         return (deepest + 1, ("measure", part, tuple([further[1] for further in found])))

@@ -32,13 +32,15 @@ NODES = (
 LOOPS = (ast.For, ast.While)
 WALKED = set("zip enumerate reversed range items keys values".split())
 WALKERS = set("list tuple dict sorted sum any all enumerate zip".split())
+READERS = set("get items keys values index count copy".split())
+OWN_VALUES = set("count index title find get join lower upper split strip copy add".split())
 KEYWORDS = {"sorted": {"key", "reverse"}, "min": {"key", "default"}, "max": {"key", "default"}, "sum": {"start"},
             "enumerate": {"start"}, "zip": {"strict"}}
 
 
 def faults_of(source):
     tree = ast.parse(source)
-    return text_faults(source) + top_faults(tree) + node_faults(tree)
+    return text_faults(source) + top_faults(tree) + node_faults(tree) + table_faults(tree) + class_faults(tree)
 
 
 def text_faults(source):
@@ -106,11 +108,58 @@ def node_faults(tree):
     return faults
 
 
+def table_faults(tree):
+    """Lists and dicts of a file's top hold none themselves, and are only read."""
+    tables = {}
+    for node in tree.body:
+        if isinstance(node, ast.Assign) and isinstance(node.value, (ast.List, ast.Dict)):
+            tables[node.targets[0].id] = node.value
+    faults = []
+    for name, table in tables.items():
+        if any(isinstance(inner, (ast.List, ast.Dict)) for inner in ast.walk(table) if inner is not table):
+            faults.append(f"L15 {name} holds a list or dict")
+    for node in ast.walk(tree):
+        if isinstance(node, ast.Name) and node.id in tables and isinstance(node.ctx, ast.Load) and not is_read(node):
+            faults.append(f"L15 line {node.lineno}")
+    return faults
+
+
+def is_read(node):
+    around = node.around
+    if isinstance(around, ast.Subscript):
+        return isinstance(around.ctx, ast.Load) and around.value is node
+    if isinstance(around, ast.Attribute):
+        return around.attr in READERS and called(around)
+    if isinstance(around, ast.Call):
+        return name_of(around) in WALKERS | {"len", "min", "max", "reversed"}
+    return isinstance(around, ast.Compare) or isinstance(around, (ast.For, ast.comprehension)) and around.iter is node
+
+
+def class_faults(tree):
+    """Classes are called, are bases, or stand by isinstance, except and raise; nowhere else."""
+    names = {node.name for node in tree.body if isinstance(node, ast.ClassDef)}
+    for node in tree.body:
+        if isinstance(node, ast.ImportFrom):
+            names |= {name.name for name in node.names if name.name[:1].isupper() and not name.name.isupper()}
+    faults = []
+    for node in ast.walk(tree):
+        if isinstance(node, ast.Name) and node.id in names and not stands_as_class(node):
+            faults.append(f"L18 line {node.lineno}")
+    return faults
+
+
+def stands_as_class(node):
+    around = node.around.around if isinstance(node.around, ast.Tuple) else node.around
+    if isinstance(around, ast.Attribute):
+        return around.attr == "__init__"
+    return called(node) or kind_asked(node) or isinstance(around, (ast.ClassDef, ast.ExceptHandler, ast.Raise))
+
+
 def rules_broken(node, own):
     if not isinstance(node, NODES):
         yield "L6 L7"
     for look in (import_rules, function_rules, class_rules, statement_rules, value_rules, name_rules, call_rules,
-                 own_call_rules, walk_rules):
+                 own_call_rules, walk_rules, own_name_rules, annotation_rules):
         yield from look(node, own)
 
 
@@ -231,6 +280,23 @@ def name_of(call):
     return getattr(call.func, "attr", getattr(call.func, "id", None))
 
 
+def own_name_rules(node, own):
+    if isinstance(node, ast.ClassDef):
+        for method in [inner.name for inner in node.body if isinstance(inner, ast.FunctionDef)]:
+            if method in PYTHON_METHODS - METHODS - {"add", "discard"}:
+                yield "L26"
+    if isinstance(node, ast.Attribute) and isinstance(node.ctx, ast.Store):
+        if node.attr in (PYTHON_METHODS | {"args", "encode", "format"}) - OWN_VALUES:
+            yield "L26"
+
+
+def annotation_rules(node, own):
+    if isinstance(node, ast.arg) and node.annotation is not None:
+        yield "L21"
+    if isinstance(node, ast.FunctionDef) and node.returns is not None:
+        yield "L21"
+
+
 def walk_rules(node, own):
     if isinstance(node, ast.Call) and name_of(node) in WALKED and name_of(node) not in own and not walked(node):
         yield "L23"
@@ -238,6 +304,8 @@ def walk_rules(node, own):
         if not isinstance(node.around, (ast.Compare, ast.BinOp)):
             if not isinstance(node.around, ast.Call) or name_of(node.around) not in ("sorted", "len"):
                 yield "L24"
+    if isinstance(node, ast.Set) and len(node.elts) > 2 and not isinstance(node.around, ast.Compare):
+        yield "L13"
 
 
 def walked(node):

@@ -52,6 +52,9 @@ class Faults(unittest.TestCase):
             "class Kept:\n    def __init__(self):\n        self.rows = []\n",
             "def first(a):\n    return sorted(a.items(), key=len) + list(range(3)) + sorted(set(a))\n",
             "def first(a):\n    return [isinstance(b, (int, str)) for b, c in zip(a, a) if b in {1, c}]\n",
+            "def first(a):\n    return a\n\n\nDEEDS = {'a': first}\n\n\ndef next_one(a):\n    return DEEDS[a](a)\n",
+            "ROWS = [1, (2, 3)]\n\n\ndef first(a):\n    return a in ROWS or list(ROWS) == a or ROWS.index(a)\n",
+            "class Kept:\n    def count(self):\n        return 1\n\n\ndef first(a):\n    return isinstance(a, Kept)\n",
         ]:
             self.assertEqual(faults_of(source), [])
 
@@ -77,6 +80,16 @@ class Faults(unittest.TestCase):
             ("L23", "def first(a):\n    a.extend(zip(a, a))\n"), ("L23", "def first(a):\n    return a.items()\n"),
             ("L24", "def first(a):\n    kept = set(a)\n    return kept\n"),
             ("L24", "def first(a):\n    return {a, 1}\n"),
+            ("L13", "def first(a):\n    return sorted({1, 2, a})\n"),
+            ("L15", "ROWS = [[1], 2]\n"), ("L15", "ROWS = {1: (2, [3])}\n"),
+            ("L15", "ROWS = [1]\n\n\ndef first(a):\n    ROWS.append(a)\n"),
+            ("L15", "ROWS = [1]\n\n\ndef first(a):\n    ROWS[0] = a\n"),
+            ("L15", "ROWS = [1]\n\n\ndef first(a):\n    return ROWS\n"),
+            ("L18", "class Kept:\n    pass\n\n\ndef first(a):\n    return [Kept]\n"),
+            ("L18", "from gaugewright.errors import NoSet\n\n\ndef first(a):\n    kept = NoSet\n    return kept\n"),
+            ("L21", "def first(a: int):\n    return a\n"), ("L21", "def first(a) -> int:\n    return a\n"),
+            ("L26", "class Kept:\n    def __init__(self):\n        self.items = []\n"),
+            ("L26", "class Kept:\n    def sort(self):\n        return 1\n"),
             ("L27", "def power(a):\n    return 2 ** a\n"), ("L27", "WORDS = 'a %'\n"),
         ]:
             with self.subTest(source=source):

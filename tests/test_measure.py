@@ -148,6 +148,11 @@ class WitnessHolds(Asking):
         for keeping, breaking in itertools.product(sets, sets):
             self.assert_no_witness([((0, 1, 2), keeping, breaking)], 4)
 
+    def test_beyond_that_nothing_shows_anything(self):
+        for many in (5, 6, 9):
+            self.assert_no_witness([], many)
+            self.assert_no_witness(WITNESS, many)
+
     def test_one_thing_otherwise(self):
         for place in range(3):
             self.assert_no_witness(WITNESS[:place] + WITNESS[place + 1:])
@@ -217,7 +222,8 @@ class WitnessHolds(Asking):
         rows = [((0,), (-5, 5, 0), (-5, 4, 7)), ((1,), (0, 0, 0), (-1, 0, GREATEST)), ((2,), (0, 0, 1), (-1, 0, 1))]
         self.assertIs(self.at_once(witness_holds, WIDE, WIDE_GAP, 2, rows), True)
         self.assertIs(self.at_once(witness_holds, WIDE, WIDE_GAP, 2, rows[:2]), False)
-        self.assertIs(self.at_once(witness_holds, WIDE, WIDE_GAP, 2, [((0,), (-5, 4, 0), (-5, 4, 7))] + rows[1:]), False)
+        wrong = [((0,), (-5, 4, 0), (-5, 4, 7))] + rows[1:]
+        self.assertIs(self.at_once(witness_holds, WIDE, WIDE_GAP, 2, wrong), False)
         self.assertIs(self.at_once(witness_holds, WIDE, WIDE_GAP, 4, [((0, 1, 2), (0, 0, 0), (-1, 0, 0))]), False)
         self.assertIs(self.at_once(witness_holds, WIDE, WIDE_GAP, 0, []), True)
         for thing in whatever():

@@ -153,6 +153,7 @@ class PlanHolds(Asking):
             ("measure", 0, (BREAKS, inner)), ("measure", 0, (BREAKS, inner, KEEPS, KEEPS)), ("measure", 0),
             ("measure", 0, [BREAKS, inner, KEEPS]), ["measure", 0, (BREAKS, inner, KEEPS)], ("Measure",) + PLAN[1:],
             ("measure", 3, (BREAKS, inner, KEEPS)), ("measure", -3, (BREAKS, inner, KEEPS)), PLAN + (0,), (PLAN,),
+            ("measure", -1, (PLAN,)), ("measure", -2, OTHER_PLAN[2]),
             ("measure", "0", (BREAKS, inner, KEEPS)), ("measure", None, (BREAKS, inner, KEEPS)),
             ("measure", (0,), (BREAKS, inner, KEEPS)), ("measure", 0, (["breaks"], inner, KEEPS)),
             ("measure", 0, ("breaks", inner, KEEPS)), ("measure", 0, (BREAKS, inner, ("Keeps",))),
@@ -167,7 +168,8 @@ class PlanHolds(Asking):
     def test_a_word_is_looked_at_though_no_number_is_wrong(self):
         never = (((0, 1),), 5, 5)
         self.assertIs(plan_holds(DRAWING, never, ("measure", 1, (BREAKS, BREAKS))), True)
-        for word in [("sometimes",), ("never",), (), "breaks", None, ("breaks", "breaks"), ["breaks"], (BREAKS,)]:
+        for word in [("sometimes",), ("never",), (), "breaks", None, ("breaks", "breaks"), ["breaks"], (BREAKS,),
+                     ("Measure", 2, (BREAKS,)), ("breaks", 2, (BREAKS,)), (2, "measure", (BREAKS,))]:
             self.assert_no_plan(("measure", 1, (BREAKS, word)), never)
             self.assert_no_plan(word, never)
 
